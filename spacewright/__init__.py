@@ -1,0 +1,1 @@
+"""Spacewright: a small language made lower in steps."""
