@@ -52,6 +52,22 @@ def told_anew(part, index):
     return names if isinstance(names, tuple) else (names,)
 
 
+# The parts that are done, from left to right, ahead of the deed of a part.
+def parts_ahead(part):
+    kind = part[0]
+    if kind == "call":
+        return (part[2],) + part[3]
+    if kind == "math":
+        return part[3:]
+    if kind == "make":
+        return part[3]
+    if kind in ("set", "raise"):
+        return (part[3],)
+    if kind in ("if", "match", "tell"):
+        return (part[2],)
+    return ()
+
+
 def is_word(thing):
     if not isinstance(thing, str) or not 1 <= len(thing) <= 8:
         return False

@@ -50,3 +50,17 @@ def reckoned(op, one, other):
     if op == "less":
         return 1 if one < other else 0
     return 1 if one == other else 0
+
+
+# The fields that a match of this tag and of so many names takes out of the value; None where it takes none.
+def matched_fields(value, tag, many):
+    if isinstance(value, Block) and value.tag == tag and len(value.fields) == many:
+        return value.fields
+    return None
+
+
+# The word of the fault that a call comes to ahead of the body, or None. The functions of a run have params.
+def call_fault(value, many):
+    if not isinstance(value, Function):
+        return "kind"
+    return None if len(value.params) == many else "odd"

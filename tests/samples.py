@@ -183,3 +183,126 @@ def without_places(thing):
     if isinstance(thing, tuple):
         return tuple([without_places(inner) for inner in thing])
     return thing
+
+
+class Lively:
+    """Programs by chance whose runs go far: the kinds of values mostly fit, and loops are among them. A scope tells
+    for each name what it holds: "n" for a number, "b" for a block, or for a function how many parameters it has."""
+
+    def __init__(self, seed, wrong=25):
+        self.chance = random.Random(seed)
+        self.wrong = wrong
+        self.places = Places()
+
+    def program(self, depth=5):
+        self.places = Places()
+        return self.part("n", {}, depth)
+
+    def part(self, kind, scope, depth):
+        if self.wrong and not self.chance.randrange(self.wrong):
+            kind = self.chance.choice(["n", "b", 0, 1, 2])
+        named = [name for name in scope if scope[name] == kind]
+        if named and self.chance.randrange(8) < (3 if depth else 8):
+            return ("name", self.places.new(), self.chance.choice(named))
+        if depth <= 0:
+            return self.small(kind)
+        if self.chance.randrange(3) == 0:
+            return self.round_it(kind, scope, depth)
+        if kind == "n":
+            return self.number_part(scope, depth)
+        if kind == "b":
+            parts = [self.part(self.any_kind(), scope, depth - 2) for _ in range(self.chance.randrange(4))]
+            return ("make", self.places.new(), self.chance.choice(["pair", "list"]), tuple(parts))
+        return self.function(kind, scope, depth)
+
+    def any_kind(self):
+        return self.chance.choice(["n", "n", "n", "b", "b", 0, 1, 2])
+
+    def small(self, kind):
+        place = self.places.new()
+        if kind == "n":
+            return ("number", place, self.chance.choice([0, 1, 2, 3, -1, 7]))
+        if kind == "b":
+            return ("make", place, "pair", ())
+        return ("fn", place, ("a", "b", "c", "d")[:kind], ("number", self.places.new(), self.chance.randrange(3)))
+
+    def function(self, many, scope, depth):
+        names = tuple(self.chance.sample(NAMES, many))
+        inside = dict(scope)
+        inside.update({name: "n" for name in names})
+        return ("fn", self.places.new(), names, self.part("n", inside, depth - 1))
+
+    def round_it(self, kind, scope, depth):
+        """A part that may have a value of any kind."""
+        sort = self.chance.choice("let let do if match try try".split())
+        place = self.places.new()
+        if sort == "let":
+            name, held = self.chance.choice(NAMES), self.any_kind()
+            one = self.part(held, scope, depth - 1)
+            return ("let", place, name, one, self.part(kind, {**scope, name: held}, depth - 1))
+        if sort == "do":
+            return ("do", place, self.part(self.any_kind(), scope, depth - 1), self.part(kind, scope, depth - 1))
+        if sort == "if":
+            return ("if", place) + tuple([self.part(each, scope, depth - 1) for each in ("n", kind, kind)])
+        if sort == "match":
+            return self.matching(place, kind, scope, depth)
+        name = self.chance.choice(NAMES)
+        one = self.part(kind, scope, depth - 1)
+        other = self.part(kind, {**scope, name: "n"}, depth - 1)
+        return ("try", place, one, self.chance.choice(["kind", "odd", "big", "oh", "oh"]), name, other)
+
+    def matching(self, place, kind, scope, depth):
+        names = tuple(self.chance.sample(NAMES, self.chance.randrange(3)))
+        parts = tuple([self.part("n", scope, depth - 2) for _ in names])
+        one = ("make", self.places.new(), "pair", parts)
+        if self.chance.randrange(2):
+            one = self.part("b", scope, depth - 1)
+        yes = self.part(kind, {**scope, **{name: "n" for name in names}}, depth - 1)
+        return ("match", place, one, "pair", names, yes, self.part(kind, scope, depth - 1))
+
+    def number_part(self, scope, depth):
+        sort = self.chance.choice("math math tell ask raise set set call call call loop loop".split())
+        place = self.places.new()
+        if sort == "set" and scope:
+            name = self.chance.choice(sorted(scope))
+            return ("set", place, name, self.part(scope[name], scope, depth - 1))
+        if sort == "call":
+            many = self.chance.randrange(3)
+            args = tuple([self.part("n", scope, depth - 1) for _ in range(many)])
+            return ("call", place, self.part(many, scope, depth - 1), args)
+        if sort == "loop" and depth > 2:
+            return self.loop(place, scope, depth)
+        if sort == "tell":
+            return ("tell", place, self.part("n", scope, depth - 1))
+        if sort == "ask":
+            return ("ask", place)
+        if sort == "raise":
+            return ("raise", place, self.chance.choice(["oh", "oh", "kind"]), self.part("n", scope, depth - 1))
+        op = self.chance.choice(["add", "add", "sub", "mul", "less", "same"])
+        return ("math", place, op, self.part("n", scope, depth - 1), self.part("n", scope, depth - 1))
+
+    def loop(self, place, scope, depth):
+        """A function that calls itself, in last place or not, as often as its first argument tells."""
+        new = self.places.new
+        step = ("math", new(), "sub", ("name", new(), "i"), ("number", new(), 1))
+        inside = {**scope, "f": 2, "i": "n", "v": self.chance.choice(["n", "b"])}
+        again = ("call", new(), ("name", new(), "f"), (step, self.part(inside["v"], inside, depth - 3)))
+        if self.chance.randrange(3) == 0:
+            again = ("math", new(), "add", again, ("number", new(), 1))
+        body = ("if", new(), ("math", new(), "less", ("number", new(), 0), ("name", new(), "i")), again,
+                self.part("n", inside, depth - 3))
+        made = ("set", new(), "f", ("fn", new(), ("i", "v"), body))
+        first = (("number", new(), self.chance.choice([1, 3, 9, 60])), self.part(inside["v"], scope, depth - 3))
+        return ("let", place, "f", ("number", new(), 0),
+                ("do", new(), made, ("call", new(), ("name", new(), "f"), first)))
+
+
+def lively_programs(seed, many, depth=5, wrong=25):
+    """So many programs that keep to the bounds, the same for the same seed."""
+    lively = Lively(seed, wrong)
+    found = []
+    while len(found) < many:
+        program = lively.program(depth)
+        if len(parts_of(program)) <= 300 and lively.places.given <= 600:
+            found.append(program)
+    return found

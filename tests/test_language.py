@@ -21,6 +21,13 @@ WORDS_THAT_STAND_NOWHERE = (
     "type typing typing_extensions enum Enum IntEnum StrEnum Flag IntFlag Generic Protocol ABC ABCMeta namedtuple "
     "NamedTuple TypedDict TYPE_CHECKING abstractmethod"
 ).split()
+NAMES_NOT_USED = (
+    "register mro elements open input version_info with_traceback add_note attrgetter breakpoint builtins compile "
+    "copyright credits delattr dir eval exec exit gc getattr globals hasattr help id importlib license locals "
+    "methodcaller os quit setattr super type vars sys format format_map chr"
+).split()
+VALUES_THAT_MAY_BE = "count index title find get join lower upper split strip copy add".split()
+WALKERS = "list tuple dict sorted sum any all enumerate zip min max".split()
 STATEMENTS = (
     ast.Assign, ast.AugAssign, ast.If, ast.While, ast.For, ast.Return, ast.Break, ast.Continue, ast.Pass, ast.Raise,
     ast.Try, ast.Expr, ast.FunctionDef, ast.ClassDef, ast.ImportFrom,
@@ -43,6 +50,14 @@ def source(name):
 
 def nodes(name):
     return list(ast.walk(ast.parse(source(name))))
+
+
+def is_walk(node):
+    if not isinstance(node, ast.Call):
+        return False
+    if isinstance(node.func, ast.Attribute):
+        return node.func.attr in ("items", "keys", "values")
+    return isinstance(node.func, ast.Name) and node.func.id in ("zip", "enumerate", "reversed", "range")
 
 
 def own_methods():
@@ -140,6 +155,93 @@ class Language(unittest.TestCase):
             for node in nodes(name):
                 if isinstance(node, ast.Attribute) and isinstance(node.ctx, ast.Store):
                     self.assertNotIn(node.attr, own, name)
+
+    def test_locals_hide_nothing_of_the_file(self):
+        for name in files():
+            tree = ast.parse(source(name))
+            top = {one.asname or one.name for node in tree.body if isinstance(node, ast.ImportFrom) for one in node.names}
+            top.update({node.name for node in tree.body if isinstance(node, (ast.ClassDef, ast.FunctionDef))})
+            top.update({one.id for node in tree.body if isinstance(node, ast.Assign) for one in node.targets})
+            for outer in ast.walk(tree):
+                if isinstance(outer, (ast.FunctionDef, ast.Lambda, ast.ListComp)):
+                    for node in ast.walk(outer):
+                        if isinstance(node, ast.Name) and isinstance(node.ctx, ast.Store):
+                            self.assertNotIn(node.id, top, name)
+                        if isinstance(node, ast.arg):
+                            self.assertNotIn(node.arg, top, name)
+
+    def test_names_at_the_top_are_bound_once(self):
+        for name in files():
+            bound = []
+            for node in ast.parse(source(name)).body:
+                if isinstance(node, (ast.FunctionDef, ast.ClassDef)):
+                    bound.append(node.name)
+                if isinstance(node, ast.Assign):
+                    bound.extend([one.id for one in node.targets])
+                if isinstance(node, ast.ImportFrom):
+                    bound.extend([one.name for one in node.names])
+            self.assertEqual(len(bound), len(set(bound)), name)
+
+    def test_values_of_objects(self):
+        own_of_python = [name for kind in (str, int, list, dict, set, bytes) for name in dir(kind)]
+        for name in files():
+            for node in nodes(name):
+                if isinstance(node, ast.Attribute):
+                    self.assertFalse(node.attr.startswith("_") and node.attr != "__init__", (name, node.attr))
+                    self.assertNotIn(node.attr, NAMES_NOT_USED, name)
+                    if isinstance(node.ctx, ast.Store):
+                        self.assertTrue(node.attr not in own_of_python or node.attr in VALUES_THAT_MAY_BE, node.attr)
+                        self.assertIsInstance(node.value, ast.Name)
+                if isinstance(node, (ast.FunctionDef, ast.ClassDef)):
+                    self.assertNotIn(node.name, NAMES_NOT_USED, name)
+                if isinstance(node, ast.Name):
+                    self.assertNotIn(node.id, NAMES_NOT_USED, name)
+
+    def test_classes_are_not_handed_on(self):
+        classes = {node.name for name in files() for node in nodes(name) if isinstance(node, ast.ClassDef)}
+        for name in files():
+            allowed = []
+            for node in nodes(name):
+                if isinstance(node, ast.Call):
+                    allowed.append(node.func)
+                    if isinstance(node.func, ast.Name) and node.func.id == "isinstance":
+                        allowed.append(node.args[1])
+                    if isinstance(node.func, ast.Attribute) and node.func.attr == "__init__":
+                        allowed.append(node.func.value)
+                if isinstance(node, ast.ClassDef):
+                    self.assertLessEqual(len(node.bases), 1)
+                    allowed.extend(node.bases)
+                if isinstance(node, ast.ExceptHandler):
+                    self.assertIn(node.type.id, classes | {"KeyError"}, name)
+                    allowed.append(node.type)
+            for node in nodes(name):
+                if isinstance(node, ast.Name) and node.id in classes:
+                    self.assertIn(ast.dump(node), [ast.dump(one) for one in allowed], (name, node.id))
+
+    def test_walked_at_once(self):
+        for name in files():
+            walked = []
+            for node in nodes(name):
+                if isinstance(node, (ast.For, ast.comprehension)):
+                    walked.append(node.iter)
+                if isinstance(node, ast.Call) and isinstance(node.func, ast.Name) and node.func.id in WALKERS:
+                    walked.extend(node.args[:1])
+            for node in nodes(name):
+                if is_walk(node):
+                    self.assertIn(ast.dump(node), [ast.dump(one) for one in walked], name)
+
+    def test_sets_are_not_kept(self):
+        for name in files():
+            good = []
+            for node in nodes(name):
+                if isinstance(node, ast.Call) and isinstance(node.func, ast.Name) and node.func.id in ("sorted", "len"):
+                    good.extend([ast.dump(one) for arg in node.args for one in ast.walk(arg)])
+                if isinstance(node, ast.Compare):
+                    good.extend([ast.dump(one) for one in ast.walk(node)])
+            for node in nodes(name):
+                self.assertNotIsInstance(node, ast.Set)
+                if isinstance(node, ast.Call) and isinstance(node.func, ast.Name) and node.func.id == "set":
+                    self.assertIn(ast.dump(node), good, name)
 
 
 if __name__ == "__main__":
