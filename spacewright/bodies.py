@@ -35,6 +35,20 @@ def inner(step):
     return []
 
 
+# The step with other inner bodies, told in the form in which inner tells them.
+def with_inner(step, told):
+    word = step[0]
+    if word == "func":
+        return step[:2] + (told[0][0], told[0][1]) + step[4:]
+    if word == "if":
+        return step[:3] + (told[0][1], told[1][1]) + step[5:]
+    if word == "match":
+        return step[:4] + (told[0][0], told[0][1], told[1][1]) + step[7:]
+    if word == "try":
+        return step[:2] + (told[0][1], step[3], told[1][0][0], told[1][1]) + step[6:]
+    return step
+
+
 # The body and all those within it, each with the names that are given at its beginning.
 def bodies_in(body):
     found = [((), body)]

@@ -306,3 +306,55 @@ def lively_programs(seed, many, depth=5, wrong=25):
         if len(parts_of(program)) <= 300 and lively.places.given <= 600:
             found.append(program)
     return found
+
+
+def chance_programs(seed, many):
+    """At most so many, as some do not keep to the bounds."""
+    chance = Chance(seed)
+    found = [chance.program() for _ in range(many)]
+    return [program for program in found if len(parts_of(program)) <= 300]
+
+
+def many_programs(seed):
+    """Programs of every sort, for what holds of each of them."""
+    return chance_programs(seed, 200) + lively_programs(seed + 1, 300) + one_of_each_kind() + [nested(20), wide(300)]
+
+
+DOWN = "(let f 0 (do (set f (fn (n) (if n (add 1 (call f (sub n 1))) (raise oh n)))) {}))"
+
+# Programs each of which has something that a runner may get wrong: faults of each kind, caught and not, in and out of
+# calls, calls that are dropped, names that are set and hidden, calls in each last place.
+TEXTS_TO_RUN = [
+    "(try (call 1) kind x (tell 5))", "(try (call (make t) 2) kind x (tell x))",
+    "(try (call (fn () (tell 1)) 2) odd x (tell 5))", "(try (tell (call (fn (a) a))) odd x (add x 1))",
+    "(try (tell (call 3)) kind x (call (fn (y) y) x))", "(try (if (make t) 1 2) kind x (tell x))",
+    "(try (tell (fn () 1)) kind x (tell x))", "(try (add (make t) 1) kind x (tell x))",
+    "(let h (mul 100000000000 1000000000) (try (mul h h) big x (tell x)))",
+    "(try (match (raise oh (make t 1)) t (a) a 0) oh x (match x t (a) (tell a) 0))",
+    "(try (raise kind 5) kind x x)", "(try (raise oh 5) no x x)", "(try (raise oh 5) oh x (raise oh (add x 1)))",
+    "(try (try (raise oh 5) oh x (raise oh 6)) oh y (tell y))", "(try (try (raise oh 5) no x 6) oh y (tell y))",
+    "(add (raise oh 5) (try 1 oh x 6))", "(add (try 1 oh x 6) (raise oh 5))",
+    "(add 10 (try (add (tell 1) (raise oh 2)) oh x x))",
+    "(let f (fn (g) (try (call g) oh x 2)) (try (call f (fn () (raise oh 1))) oh y 3))",
+    "(let f (fn (g) (try (call g) no x 2)) (try (call f (fn () (raise oh 1))) oh y 3))",
+    DOWN.format("(do (try (call f 49) oh x 0) (add 1 (call f 48)))"),
+    DOWN.format("(do (try (call f 49) oh x 0) (add 1 (call f 50)))"),
+    DOWN.format("(try (call f 20) oh x (try (call f 30) oh y 7))"),
+    DOWN.format("(let g (fn () (try (call f 30) oh x (add 1 (call f 40)))) (try (add 1 (call g)) oh y 8))"),
+    DOWN.format("(let g (fn () (try (call f 48) oh x (add 1 (call f 49)))) (add 1 (call g)))"),
+    DOWN.format("(let g (fn () (try (call f 48) oh x (add 1 (call f 48)))) (add 1 (call g)))"),
+    DOWN.format("(let g (fn () (try (call f 48) oh x (call f 49))) (add 1 (call g)))"),
+    "(let x 1 (do (let x 2 (set x 3)) x))", "(let x 1 (let f (fn () x) (let x 2 (do (set x 3) (call f)))))",
+    "(let x 1 (add x (do (set x 5) x)))", "(let x 1 (make t x (set x 2) x (fn () x)))",
+    "(let x 1 (let f (fn (n) (set x n)) (let g (fn () x) (do (call f 8) (call g)))))",
+    "(call (fn (x y) (let g (fn () (set x (add x y))) (do (call g) (do (set y 10) (call g))))) 1 2)",
+    "(match (make t 1 2) t (x y) (let g (fn () (set y (add x 7))) (do (call g) (make u x y))) 0)",
+    "(try (raise w 1) w x (let g (fn () (set x 7)) (do (call g) x)))",
+    "(let mk (fn (n) (fn () (set n (add n 1)))) (let a (call mk 0) (let b (call mk 9) (make t (call a) (call b)))))",
+    "(let y 2 (try (do (set y 3) (raise oh 4)) oh x (make t x y)))",
+    "(let f (fn () (tell 1)) (try (raise oh 1) oh x (do (call f) (match 0 t () 2 (if 0 3 (call f))))))",
+    "(let f (fn (n) (tell n)) (let g (fn (n) (if n (call f n) (try (call f n) no x (call f 7)))) "
+    "(add (call g 0) (call g 1))))",
+    "(let f 0 (do (set f (fn () (try (call f) oh x 1))) (call f)))",
+    "(make t (ask) (ask) (ask) (make u (fn () 1)))",
+]

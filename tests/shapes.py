@@ -11,6 +11,19 @@ LAYOUTS = {
 NO_DEEDS = ("start", "read", "box", "load", "try")
 
 
+def n(number):
+    return ("number", number)
+
+
+def x(name):
+    return ("name", name)
+
+
+def body(*things):
+    """The last of the things is the last atom, the others are the steps."""
+    return (things[:-1], things[-1])
+
+
 def sorts(step):
     """Tuples of a sort and a thing, for all that stands in a step behind its word."""
     layout = LAYOUTS[step[0]].split()

@@ -1,22 +1,14 @@
 import copy
 import unittest
 
-from samples import Chance, lively_programs, nested, one_of_each_kind, parts_of, wide
-from shapes import NO_DEEDS, all_given, all_steps, canonical, check_well_made, place_of
+from samples import many_programs, nested, one_of_each_kind, parts_of, wide
+from shapes import NO_DEEDS, all_given, all_steps, canonical, check_well_made, n, place_of, x
 from spacewright.errors import NoPart
 from spacewright.naming import named
 from spacewright.reading import read_program
 
 DEED_WORDS = {"fn": "func", "call": "call", "set": "set", "if": "if", "math": "math", "make": "make",
               "match": "match", "raise": "raise", "tell": "tell", "ask": "ask"}
-
-
-def n(number):
-    return ("number", number)
-
-
-def x(name):
-    return ("name", name)
 
 
 class Case(unittest.TestCase):
@@ -205,28 +197,22 @@ class Whole(Case):
             self.assertEqual(named(program), named(program))
             self.assertEqual(program, kept)
 
-    def many_programs(self):
-        chance = Chance(41)
-        by_chance = [chance.program() for _ in range(200)]
-        by_chance = [program for program in by_chance if len(parts_of(program)) <= 300]
-        return by_chance + lively_programs(42, 300) + one_of_each_kind() + [nested(20), wide(300)]
-
     def test_each_name_once_and_numbers_without_a_gap(self):
-        for program in self.many_programs():
+        for program in many_programs(41):
             body, places = named(program)
             self.assertEqual(sorted(all_given(body)), list(range(len(places))))
             check_well_made(self, body)
             self.assertEqual((type(body), type(places)), (tuple, tuple))
 
     def test_a_step_for_each_deed(self):
-        for program in self.many_programs():
+        for program in many_programs(41):
             body, places = named(program)
             steps = [(step[0], place_of(step)) for step in all_steps(body) if step[0] not in NO_DEEDS]
             parts = [(DEED_WORDS[part[0]], part[1]) for part in parts_of(program) if part[0] in DEED_WORDS]
             self.assertEqual(sorted(steps), sorted(parts))
 
     def test_the_place_of_each_name(self):
-        for program in self.many_programs():
+        for program in many_programs(41):
             body, places = named(program)
             kinds = {part[1]: part[0] for part in parts_of(program)}
             for step in all_steps(body):

@@ -2,7 +2,7 @@ import copy
 import unittest
 
 from model import model_run
-from samples import Chance, lively_programs, nested, one_of_each_kind, parts_of, wide
+from samples import TEXTS_TO_RUN, chance_programs, lively_programs, nested, one_of_each_kind, parts_of, wide
 from spacewright.errors import NoPart
 from spacewright.reading import read_program
 from spacewright.sourcerun import run_source
@@ -425,6 +425,12 @@ class Model(Case):
     def same(self, program, inputs, most):
         self.assertEqual(run_source(program, inputs, most), model_run(program, inputs, most), program)
 
+    def test_texts(self):
+        for text in TEXTS_TO_RUN:
+            program = read_program(text)
+            for most in list(range(12)) + [1000]:
+                self.same(program, [6, 7], most)
+
     def test_lively_programs(self):
         ends = {}
         for program in lively_programs(21, 700):
@@ -445,11 +451,8 @@ class Model(Case):
                 self.same(program, [2], most)
 
     def test_chance_programs(self):
-        chance = Chance(24)
-        for _ in range(300):
-            program = chance.program()
-            if len(parts_of(program)) <= 300:
-                self.same(program, [1], 50)
+        for program in chance_programs(24, 300):
+            self.same(program, [1], 50)
 
 
 if __name__ == "__main__":
