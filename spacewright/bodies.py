@@ -81,3 +81,13 @@ def mentioned(body):
             if word == "name":
                 uses[name] = True
     return sorted(uses)
+
+
+# For each step of a body, and for its end, the names that are used from there on to the body's end.
+def rests_of(body):
+    steps, last = body
+    rests = [tuple(mentioned(((), last)))]
+    for step in reversed(steps):
+        uses = mentioned(((step,), last))
+        rests.append(tuple(sorted(set(rests[-1]) | set(uses))))
+    return tuple(reversed(rests))

@@ -1,6 +1,6 @@
 """The run of a closed program, with or without a room for its things, and what is reached where the room is full."""
 
-from spacewright.bodies import inner, mentioned, with_inner
+from spacewright.bodies import inner, rests_of, with_inner
 from spacewright.errors import Ended
 from spacewright.namedrun import DOINGS, BodyFunction, BodyRun, Frame, frame_with
 from spacewright.values import Block, is_number
@@ -58,16 +58,11 @@ class Reach:
         return told
 
 
-# The body, and those within it, with a third thing: for each of its steps, and for its end, the names that are used
-# from there on to its end.
+# The body, and those within it, with a third thing: its rests.
 def with_rests(body):
     steps, last = body
-    rests = [tuple(mentioned(((), last)))]
-    for step in reversed(steps):
-        uses = mentioned(((step,), last))
-        rests.append(tuple(sorted(set(rests[-1]) | set(uses))))
     grown = [step_with_rests(step) for step in steps]
-    return (tuple(grown), last, tuple(reversed(rests)))
+    return (tuple(grown), last, rests_of(body))
 
 
 def step_with_rests(step):
