@@ -35,6 +35,11 @@ def kind_and_fields(thing):
     return ("fn", tuple(thing.outer.names.values()))
 
 
+# How many cells the things, told by their kinds and fields, take.
+def cells_of(things):
+    return sum([1 + len(fields) for kind, fields in things])
+
+
 # The things that are met, each once, in the order in which they are met first.
 class Reach:
     def __init__(self):
@@ -133,7 +138,7 @@ class ClosedRun(BodyRun):
         if self.at_most <= self.room:
             return
         frames, things = self.reached()
-        held = sum([1 + len(fields) for kind, fields in things])
+        held = cells_of(things)
         if held + cells > self.room:
             self.fullness = (place, cells, frames, things)
             raise Ended(("full", place))

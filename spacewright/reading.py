@@ -74,9 +74,10 @@ def words_of(text):
     return words
 
 
-def is_number_word(word):
+# Whether the word is a number of at most so many figures.
+def is_number_word(word, most):
     figures = word[1:] if word.startswith("-") else word
-    if not 1 <= len(figures) <= MOST_FIGURES:
+    if not 1 <= len(figures) <= most:
         return False
     if not all([sign in FIGURES for sign in figures]):
         return False
@@ -115,7 +116,7 @@ class Reader:
         place, word = self.coming()
         if word == "(" and within < MOST_WITHIN:
             return self.read_bracketed(there, within + 1)
-        if is_number_word(word):
+        if is_number_word(word, MOST_FIGURES):
             self.take()
             return ("number", place, int(word))
         return ("name", place, self.read_used(there))

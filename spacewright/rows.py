@@ -2,7 +2,7 @@
 
 from spacewright.errors import NoRow
 from spacewright.parts import MOST_IN_ROW, OPS, is_place, is_word, plain
-from spacewright.reading import is_number_word
+from spacewright.reading import MOST_FIGURES, is_number_word
 
 MOST_SIGNS = 60000
 MOST_NAMES = 300
@@ -127,7 +127,7 @@ def can_follow(code, codes, many):
 
 
 def is_figures(word):
-    return is_number_word(word) and not word.startswith("-")
+    return is_number_word(word, MOST_FIGURES) and not word.startswith("-")
 
 
 def read_rows_of(code, end, codes, lines):
@@ -206,7 +206,7 @@ class RowReader:
     def operand_in(self, word):
         if word.startswith("s"):
             return ("slot", self.slot_in(word))
-        self.need(is_number_word(word))
+        self.need(is_number_word(word, MOST_FIGURES))
         return ("number", int(word))
 
     def read_operands(self, sort):

@@ -2,7 +2,7 @@ import copy
 import unittest
 
 from closedmodel import closed_model, in_order
-from samples import TEXTS_TO_RUN, chance_programs, lively_programs, nested, one_of_each_kind, wide
+from samples import STORING, TEXTS_TO_RUN, chance_programs, lively_programs, nested, one_of_each_kind, wide
 from shapes import body, n, x
 from spacewright.boxing import boxed
 from spacewright.closedrun import full_closed, run_closed
@@ -10,22 +10,6 @@ from spacewright.closing import closed
 from spacewright.naming import named
 from spacewright.reading import read_program
 from spacewright.sourcerun import run_source
-
-# Programs whose things hold one another in many ways.
-STORING = [
-    "(let f 0 (do (set f (fn (n b) (if n (call f (sub n 1) (make t n b)) b))) (call f 30 0)))",
-    "(let f 0 (do (set f (fn (n k) (if n (call f (sub n 1) (fn (x) (call k (add x n)))) (call k 0)))) "
-    "(call f 20 (fn (x) x))))",
-    "(let f 0 (do (set f (fn (n) (if n (make t n (call f (sub n 1))) (make e)))) (call f 25)))",
-    "(let mk (fn (n) (fn () (set n (add n 1)))) (let a (call mk 1) (let b (call mk 2) "
-    "(do (call a) (make t (call a) (call b) a b)))))",
-    "(let x 0 (do (set x (make t (fn () x))) (let y (make u x x) (do (set x 0) (match y u (a b) (make v a b) 0)))))",
-    "(let f (fn (n) (try (if n (raise oh (make t n)) (make u n)) oh e (make v e))) "
-    "(make t (call f 0) (call f 1) (try (call f 2) no z 0)))",
-    "(let b (make big 1 2 3 4) (let f (fn (g) (match (call g) t (x) (make u x b) 0)) (call f (fn () (make t 5)))))",
-    "(let l 0 (let f 0 (do (set f (fn (n) (if n (do (set l (make c n l)) (call f (sub n 1))) 0))) "
-    "(do (call f 12) (do (set l (make c 0)) (do (call f 6) l))))))",
-]
 
 
 def code(place, params, kept, *things):
